@@ -5,8 +5,9 @@ type pages map[string]*page
 
 // A page is what one user has in one room. A user without a mark above 0 and without notes has none there.
 type page struct {
-	mark  int
-	notes map[int]note // by places; live ones alone
+	mark       int
+	notes      map[int]note // by places; live ones alone
+	highlights int          // how many of them have one: counters are asked for with each note
 }
 
 type note struct {
@@ -41,7 +42,7 @@ func (b *Book) mark(user, room string) int {
 func (b *Book) forget(room string, place int) {
 	users := b.rooms[room]
 	for user, p := range users {
-		delete(p.notes, place)
+		p.take(place)
 		p.tidy()
 		if p.mark == 0 && p.notes == nil {
 			delete(users, user)
@@ -54,10 +55,22 @@ func (b *Book) forget(room string, place int) {
 
 // put lays a note in the place of the one that there was.
 func (p *page) put(place int, n note) {
+	p.take(place)
 	if p.notes == nil {
 		p.notes = map[int]note{}
 	}
 	p.notes[place] = n
+	if n.highlight {
+		p.highlights++
+	}
+}
+
+// take takes a note out, if there is one.
+func (p *page) take(place int) {
+	if p.notes[place].highlight {
+		p.highlights--
+	}
+	delete(p.notes, place)
 }
 
 // read moves the mark on to a place, and takes out the notes that are dead by that.
@@ -65,7 +78,7 @@ func (p *page) read(place int) {
 	p.mark = place
 	for at := range p.notes {
 		if at <= place {
-			delete(p.notes, at)
+			p.take(at)
 		}
 	}
 	p.tidy()
@@ -76,14 +89,4 @@ func (p *page) tidy() {
 	if len(p.notes) == 0 {
 		p.notes = nil
 	}
-}
-
-func (p *page) highlights() int {
-	many := 0
-	for _, n := range p.notes {
-		if n.highlight {
-			many++
-		}
-	}
-	return many
 }
